@@ -322,6 +322,17 @@ func TestEveryEscapeByNumber(t *testing.T) {
 		checkNumber(t, fmt.Sprintf(`\U%08x`, n), n)
 		checkNumber(t, fmt.Sprintf(`\U%08X`, n), n)
 	}
+	for n := range 256 {
+		for _, form := range []string{`\x%02x`, `\x%02X`} {
+			text := fmt.Sprintf(form, n)
+			if got, e := Value(`"` + text + `"`); got != string([]byte{byte(n)}) || e != api.OK {
+				t.Errorf("P6.2: Value(%q) = %q %v", text, got, e)
+			}
+			if got, e := Value("'" + text + "'"); got != string(rune(n)) || e != api.OK {
+				t.Errorf("P6.2: Value('%s') = %q %v", text, got, e)
+			}
+		}
+	}
 	for n := range 512 {
 		text := fmt.Sprintf(`\%03o`, n)
 		want, err := string([]byte{byte(n)}), api.OK
