@@ -18,6 +18,9 @@ var ways = map[string][]string{
 	"lines":  {"closure"},
 	"number": {"closure"},
 	"quoted": {"fallthrough"},
+	"scan":   {"label"},
+	"semi":   {"closure", "struct-compared"},
+	"nest":   {"array"},
 }
 
 func TestLayersLeanOnTheirWays(t *testing.T) {
@@ -61,11 +64,25 @@ func way(n ast.Node) string {
 			return "array"
 		}
 	case *ast.BranchStmt:
+		if x.Label != nil {
+			return "label"
+		}
 		return x.Tok.String()
+	case *ast.BinaryExpr:
+		if (x.Op == token.EQL || x.Op == token.NEQ) && (isLiteral(x.X) || isLiteral(x.Y)) {
+			return "struct-compared"
+		}
 	case *ast.CallExpr:
 		if f, ok := x.Fun.(*ast.Ident); ok && strings.Contains(" copy panic recover ", " "+f.Name+" ") {
 			return f.Name
 		}
 	}
 	return ""
+}
+
+// isLiteral tells a composite literal; in a comparison that is a struct's or
+// an array's.
+func isLiteral(x ast.Expr) bool {
+	_, ok := ast.Unparen(x).(*ast.CompositeLit)
+	return ok
 }
