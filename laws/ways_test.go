@@ -21,6 +21,8 @@ var ways = map[string][]string{
 	"scan":   {"label"},
 	"semi":   {"closure", "struct-compared"},
 	"nest":   {"array"},
+	"tree":   {"closure"},
+	"term":   {"closure", "copy"},
 }
 
 func TestLayersLeanOnTheirWays(t *testing.T) {
