@@ -23,16 +23,18 @@ var ways = map[string][]string{
 	"nest":   {"array"},
 	"tree":   {"closure"},
 	"term":   {"closure", "copy"},
+	"syntax": {"panic", "defer", "recover", "type-switch", "map", "method-expression", "method-value"},
 }
 
 func TestLayersLeanOnTheirWays(t *testing.T) {
 	for layer, wanted := range ways {
-		var l []string
+		var files []*ast.File
 		for _, path := range sources(t) {
 			if filepath.Base(filepath.Dir(path)) == layer {
-				l = append(l, waysOf(t, path)...)
+				files = append(files, parsed(t, path))
 			}
 		}
+		l := waysOf(files)
 		for _, way := range wanted {
 			if !slices.Contains(l, way) {
 				t.Errorf("Ways: %s has no %s", layer, way)
@@ -41,19 +43,54 @@ func TestLayersLeanOnTheirWays(t *testing.T) {
 	}
 }
 
-// waysOf tells which ways a file has.
-func waysOf(t *testing.T, path string) []string {
+// parsed is a file's syntax.
+func parsed(t *testing.T, path string) *ast.File {
 	t.Helper()
 	file, err := parser.ParseFile(token.NewFileSet(), path, nil, 0)
 	if err != nil {
 		t.Fatal(err)
 	}
+	return file
+}
+
+// waysOf tells which ways the files of a package have.
+func waysOf(files []*ast.File) []string {
+	methods := map[string]bool{}
+	called := map[ast.Node]bool{}
 	var l []string
-	ast.Inspect(file, func(n ast.Node) bool {
+	each := func(do func(n ast.Node)) {
+		for _, file := range files {
+			ast.Inspect(file, func(n ast.Node) bool {
+				do(n)
+				return true
+			})
+		}
+	}
+	each(func(n ast.Node) {
+		switch x := n.(type) {
+		case *ast.FuncDecl:
+			methods[x.Name.Name] = methods[x.Name.Name] || x.Recv != nil
+		case *ast.CallExpr:
+			called[ast.Unparen(x.Fun)] = true
+		}
+	})
+	each(func(n ast.Node) {
 		l = append(l, way(n))
-		return true
+		if x, ok := n.(*ast.SelectorExpr); ok && methods[x.Sel.Name] && !called[x] {
+			l = append(l, wayOfMethod(x))
+		}
 	})
 	return l
+}
+
+// wayOfMethod is the way that a method is one of which isn't called.
+func wayOfMethod(x *ast.SelectorExpr) string {
+	if p, ok := x.X.(*ast.ParenExpr); ok {
+		if _, ok := p.X.(*ast.StarExpr); ok {
+			return "method-expression"
+		}
+	}
+	return "method-value"
 }
 
 // way is the way that a node of a file is one of; the empty text if of none.
@@ -61,6 +98,12 @@ func way(n ast.Node) string {
 	switch x := n.(type) {
 	case *ast.FuncLit:
 		return "closure"
+	case *ast.DeferStmt:
+		return "defer"
+	case *ast.TypeSwitchStmt:
+		return "type-switch"
+	case *ast.MapType:
+		return "map"
 	case *ast.ArrayType:
 		if x.Len != nil {
 			return "array"
